@@ -1,0 +1,1 @@
+"""Nearlaid: weights laid nearest to a wish, by exact fractions."""

@@ -1,0 +1,1 @@
+"""Fractions, rows of them, and systems."""
