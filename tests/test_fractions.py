@@ -1,6 +1,8 @@
 """Promises [2], [4] and [5]: nearlaid/numbers/fractions.py."""
 
+import itertools
 import random
+import re
 import unittest
 from fractions import Fraction
 
@@ -202,9 +204,6 @@ class Read(unittest.TestCase):
 
     def test_each_short_text(self):
         """Of all texts of few signs just those are read that the document tells."""
-        import itertools
-        import re
-
         form = re.compile(r"(0|-?[1-9][0-9]*)(/[1-9][0-9]*)?")
         for many in range(6):
             for signs in itertools.product("017/- ", repeat=many):

@@ -8,7 +8,7 @@ def solved(system, many):
     lines, leads, lead = cleared([whole_line(row, number) for row, number in system], many)
     if any(line[many] != 0 for line in lines[len(leads):]):
         return ("none", paper_of(system, many))
-    # The numbers stand behind the last unknown's column, so they are taken off as column many.
+    # The numbers stand behind the last unknown's column: they are column many.
     one = led([NOUGHT] * many, lines, leads, lead, many)
     free = []
     for column in range(many):
