@@ -40,3 +40,71 @@ def some_fraction(chance, figures=1):
     if chance.randrange(4) == 0:
         return (chance.randint(-2, 2), 1)
     return told(Fraction(chance.randint(-most, most), chance.randint(1, most)))
+
+
+def sum_with(line, numbers):
+    """The sum of the products, place by place, as Python's own fraction."""
+    return sum((own(a) * own(b) for a, b in zip(line, numbers)), Fraction(0))
+
+
+def turned(lines, many):
+    """The columns of lines that have so many places."""
+    return [tuple(line[k] for line in lines) for k in range(many)]
+
+
+def rank(columns):
+    """How many of the columns, of Python's own fractions, are no sums of those ahead."""
+    kept = []
+    for column in columns:
+        rest = list(column)
+        for at, base in kept:
+            by = rest[at]
+            rest = [x - by * y for x, y in zip(rest, base)]
+        for at, x in enumerate(rest):
+            if x != 0:
+                kept.append((at, [y / x for y in rest]))
+                break
+    return len(kept)
+
+
+def free_places(lines, many):
+    """The places whose columns are sums of columns ahead, by the document's own words."""
+    columns = [[own(x) for x in column] for column in turned(lines, many)]
+    return [k for k in range(many) if rank(columns[:k + 1]) == rank(columns[:k])]
+
+
+def some_row(chance, many, figures=1):
+    """A row of so many fractions."""
+    return tuple(some_fraction(chance, figures) for k in range(many))
+
+
+def mixed(rows, numbers, many):
+    """The sum of the rows, each so many times, of so many places."""
+    return tuple(told(sum_with(column, numbers)) for column in turned(rows, many))
+
+
+def some_rows(chance, many, places, figures=1):
+    """So many rows, among them ones that are nought, alike, or sums of those ahead."""
+    rows = []
+    for k in range(many):
+        kind = chance.randrange(6)
+        if kind == 0:
+            rows.append(row(*[0] * places))
+        elif kind == 1 and rows:
+            rows.append(chance.choice(rows))
+        elif kind == 2 and rows:
+            rows.append(mixed(rows, some_row(chance, len(rows)), places))
+        else:
+            rows.append(some_row(chance, places, figures))
+    return tuple(rows)
+
+
+def some_table(chance, columns, rows, figures=1):
+    """A table with so many columns and rows, among the columns ones as some_rows tells."""
+    lines = tuple(turned(some_rows(chance, columns, rows, figures), rows))
+    return (tuple("abcdef"[:columns]), lines, some_row(chance, rows, figures))
+
+
+def changed(line, at, by=(1, 1)):
+    """The row with so much put to one place."""
+    return line[:at] + (told(own(line[at]) + own(by)),) + line[at + 1:]

@@ -23,6 +23,12 @@ BARRED_NAMES = (
     "compile copyright credits delattr dir eval exec exit gc getattr globals hasattr help id importlib license "
     "locals methodcaller os quit setattr type vars sys chr print"
 ).split()
+METHODS = (
+    "append clear copy count endswith extend find get index insert isalnum isalpha isdigit islower isspace isupper "
+    "items join keys ljust lower lstrip partition pop remove replace reverse rfind rjust rpartition rsplit rstrip "
+    "setdefault split splitlines startswith strip update upper values zfill bit_length removeprefix removesuffix "
+    "isascii isdecimal add discard sort __init__"
+).split()
 STATEMENTS_BARRED = (ast.Global, ast.AsyncFunctionDef, ast.AsyncFor, ast.AsyncWith, ast.Await, ast.Import)
 
 
@@ -125,6 +131,44 @@ class Trees(unittest.TestCase):
                 self.assertEqual(read - bound - set(WORDS), set())
                 for name in bound:
                     self.assertTrue(not name.startswith("_") or re.fullmatch(r"__[a-z]+__", name), name)
+
+    def test_no_local_name_hides_an_import_or_a_class(self):
+        for path in files():
+            tree = tree_of(path)
+            taken = {node.name for node in tree.body if isinstance(node, ast.ClassDef)}
+            for node in tree.body:
+                if isinstance(node, ast.ImportFrom):
+                    taken |= {alias.asname or alias.name for alias in node.names}
+            for function in functions(tree):
+                local = {node.arg for node in ast.walk(function) if isinstance(node, ast.arg)}
+                local |= {n.id for n in ast.walk(function) if isinstance(n, ast.Name) and isinstance(n.ctx, ast.Store)}
+                self.assertEqual(local & taken, set(), f"{path}: {function.name}")
+
+    def test_methods_and_attributes(self):
+        methods, attributes = set(), set()
+        for path in files():
+            for node in ast.walk(tree_of(path)):
+                if isinstance(node, ast.ClassDef):
+                    methods |= {part.name for part in node.body if isinstance(part, ast.FunctionDef)}
+                if isinstance(node, ast.Attribute) and isinstance(node.ctx, ast.Store):
+                    attributes.add(node.attr)
+        self.assertEqual(methods & attributes, set())
+        for path in files():
+            for node in ast.walk(tree_of(path)):
+                if isinstance(node, ast.Call) and isinstance(node.func, ast.Attribute):
+                    self.assertIn(node.func.attr, methods | set(METHODS), path)
+
+    def test_no_import_goes_round(self):
+        # Each file may import from files that need nothing of it: such an order is sought.
+        needs = {}
+        for path in files():
+            module = ".".join(path.relative_to(TOP).with_suffix("").parts)
+            needs[module] = {node.module for node in tree_of(path).body if isinstance(node, ast.ImportFrom)}
+        while needs:
+            ready = [module for module in needs if not needs[module] & set(needs)]
+            self.assertNotEqual(ready, [], needs)
+            for module in ready:
+                del needs[module]
 
     def test_statements_and_signs(self):
         for path in files():

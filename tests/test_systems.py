@@ -6,37 +6,12 @@ import unittest
 from fractions import Fraction
 
 from nearlaid.numbers.systems import solved
-from tests.support import is_row, own, row, some_fraction, told
+from tests.support import free_places, is_row, own, row, some_fraction, sum_with, told
 
 
 def system(*lines):
     """A system of lines of numbers, in each the last the row's number."""
     return tuple((row(*line[:-1]), row(line[-1])[0]) for line in lines)
-
-
-def rank(columns):
-    """How many of the columns are no sums of those ahead, reckoned apart from the program."""
-    kept = []
-    for column in columns:
-        rest = list(column)
-        for at, base in kept:
-            by = rest[at]
-            rest = [x - by * y for x, y in zip(rest, base)]
-        for at, x in enumerate(rest):
-            if x != 0:
-                kept.append((at, [y / x for y in rest]))
-                break
-    return len(kept)
-
-
-def free_places(asked, many):
-    """The unknowns that can be chosen freely, by the document's own words."""
-    columns = [[own(line[k]) for line, number in asked] for k in range(many)]
-    return [k for k in range(many) if rank(columns[:k + 1]) == rank(columns[:k])]
-
-
-def sum_with(line, numbers):
-    return sum((own(a) * own(b) for a, b in zip(line, numbers)), Fraction(0))
 
 
 class Checked(unittest.TestCase):
@@ -65,7 +40,7 @@ class Checked(unittest.TestCase):
         self.assertEqual(word, "solved")
         self.assertTrue(is_row(one, many))
         self.assertIsInstance(free, tuple)
-        places = free_places(asked, many)
+        places = free_places([line for line, number in asked], many)
         self.assertEqual(len(free), len(places))
         for line, number in asked:
             self.assertEqual(sum_with(line, one), own(number))

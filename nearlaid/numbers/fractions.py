@@ -66,10 +66,25 @@ def compared(one, other):
 
 def product(row, other):
     """The sum of the products of two rows, place by place."""
-    total = NOUGHT
-    for one, two in zip(row, other):
-        total = plus(total, times(one, two))
-    return total
+    # Over common belows least numbers are sought once, not at each place: that is most of the work.
+    by, other_by = common_below(row), common_below(other)
+    total = 0
+    for one, two in zip(whole_row(row, by), whole_row(other, other_by)):
+        total += one * two
+    return fraction(total, by * other_by)
+
+
+def common_below(row):
+    """The least whole number above 0 by which each fraction of the row becomes whole."""
+    common = 1
+    for above, below in row:
+        common = common // common_divisor(common, below) * below
+    return common
+
+
+def whole_row(row, by):
+    """The row so many times, by such a number that all become whole."""
+    return [above * (by // below) for above, below in row]
 
 
 def number_shown(one):

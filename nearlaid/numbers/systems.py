@@ -1,29 +1,35 @@
 """Systems: unknowns whose sums with the rows are the numbers."""
 
-from nearlaid.numbers.fractions import NOUGHT, ONE, common_divisor, fraction
+from nearlaid.numbers.fractions import NOUGHT, ONE, common_below, fraction, whole_row
+from nearlaid.numbers.rows import noughts, turned, unit
 
 
 def solved(system, many):
     """("solved", one, free), or ("none", paper), of a system with so many unknowns."""
-    lines, leads, lead = cleared([whole_line(row, number) for row, number in system], many)
+    lines, by = whole_lines(system)
+    lines, leads, lead = cleared(lines, many)
     if any(line[many] != 0 for line in lines[len(leads):]):
         return ("none", paper_of(system, many))
-    # The numbers stand behind the last unknown's column: they are column many.
-    one = led([NOUGHT] * many, lines, leads, lead, many)
-    free = []
-    for column in range(many):
-        if column not in leads:
-            unit = [NOUGHT] * column + [ONE] + [NOUGHT] * (many - column - 1)
-            free.append(led(unit, lines, leads, -lead, column))
-    return ("solved", one, tuple(free))
+    one = list(noughts(many))
+    for line, place in zip(lines, leads):
+        # The numbers stand behind the last unknown's column: they are column many.
+        one[place] = fraction(line[many], lead * by)
+    free = [free_way(lines, leads, lead, column, many) for column in range(many) if column not in leads]
+    return ("solved", tuple(one), tuple(free))
 
 
-def whole_line(row, number):
-    """The row and behind it the number, so many times that all are whole numbers."""
-    common = number[1]
-    for above, below in row:
-        common = common // common_divisor(common, below) * below
-    return [above * (common // below) for above, below in [*row, number]]
+def whole_lines(system):
+    """Lines of whole numbers, each row with its number behind, and how many times the numbers are taken.
+
+    All numbers are taken equally often: were it done line by line, a long number would make its
+    whole line long.
+    """
+    by = common_below([number for row, number in system])
+    lines = []
+    for row, (above, below) in system:
+        common = common_below(row)
+        lines.append([*whole_row(row, common), above * (by // below) * common])
+    return lines, by
 
 
 def cleared(lines, many):
@@ -65,17 +71,18 @@ def column_cleared(lines, at, column, before):
     return cleaned
 
 
-def led(numbers, lines, leads, lead, column):
-    """The numbers, but at the leading places the column's own, divided by the leading number."""
-    told = list(numbers)
+def free_way(lines, leads, lead, column, many):
+    """The solution with nought as numbers in which that free unknown is 1, the other free ones 0."""
+    way = list(unit(many, column))
     for line, place in zip(lines, leads):
-        told[place] = fraction(line[column], lead)
-    return tuple(told)
+        way[place] = fraction(-line[column], lead)
+    return tuple(way)
 
 
 def paper_of(system, many):
     """So many times each row, of a system without solution: together nought, the numbers 1."""
     # The system turned about has a solution just where this one has none.
-    turned = [(tuple([row[k] for row, number in system]), NOUGHT) for k in range(many)]
-    turned.append((tuple([number for row, number in system]), ONE))
-    return solved(tuple(turned), len(system))[1]
+    columns = turned([row for row, number in system], many)
+    asked = [(column, NOUGHT) for column in columns]
+    asked.append((tuple([number for row, number in system]), ONE))
+    return solved(tuple(asked), len(system))[1]

@@ -1,0 +1,1 @@
+"""Corner questions, and what is told by them."""

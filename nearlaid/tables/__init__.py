@@ -1,0 +1,1 @@
+"""Tables: their texts, and the weights that are nearest to their wishes."""
