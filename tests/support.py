@@ -18,6 +18,11 @@ def row(*numbers):
     return tuple(told(Fraction(number)) for number in numbers)
 
 
+def system(*lines):
+    """A system of lines of numbers, in each the last the row's number; ties are such, too."""
+    return tuple((row(*line[:-1]), row(line[-1])[0]) for line in lines)
+
+
 def is_fraction(thing):
     """Whether the thing is a tuple (above, below) as the document tells, of ints that are no truths."""
     return (
@@ -108,3 +113,12 @@ def some_table(chance, columns, rows, figures=1):
 def changed(line, at, by=(1, 1)):
     """The row with so much put to one place."""
     return line[:at] + (told(own(line[at]) + own(by)),) + line[at + 1:]
+
+
+def some_ties(chance, many, weights, figures=1):
+    """So many ties that the weights fulfil, but for one time in four."""
+    lines = some_rows(chance, many, len(weights), figures)
+    numbers = tuple(told(sum_with(line, weights)) for line in lines)
+    if numbers and chance.randrange(4) == 0:
+        numbers = changed(numbers, chance.randrange(many))
+    return tuple(zip(lines, numbers))

@@ -3,17 +3,20 @@
 import copy
 import itertools
 import random
+import signal
 import unittest
 from fractions import Fraction
 
 from nearlaid.corners.corners import corner_shown, least_corner
 from nearlaid.numbers.systems import solved
-from tests.support import changed, is_row, mixed, own, row, some_fraction, some_row, some_rows, sum_with, told, turned
+from tests.support import (
+    changed, is_row, mixed, own, row, some_fraction, some_row, some_rows, sum_with, system, told, turned,
+)
 
 
 def question(costs, *lines):
     """A corner question of costs and of lines, in each the last the row's number."""
-    return row(*costs), tuple((row(*line[:-1]), row(line[-1])[0]) for line in lines)
+    return row(*costs), system(*lines)
 
 
 def holds(costs, rows, answer):
@@ -139,6 +142,47 @@ class ByHand(Checked):
 
 class Rounds(Checked):
     """Questions in which careless choices come round to the same corner again and again."""
+
+    def setUp(self):
+        # Where a question does not end, the test shall fail and not hang.
+        self.before = signal.signal(signal.SIGALRM, self.too_long)
+        signal.alarm(120)
+
+    def tearDown(self):
+        signal.alarm(0)
+        signal.signal(signal.SIGALRM, self.before)
+
+    def too_long(self, number, frame):
+        raise AssertionError("the question does not end")
+
+    def test_lines_that_leave_together(self):
+        # Of lines that reach 0 together it matters which leaves: with always the first of them, or
+        # always the last, these four come round.
+        for costs, *lines in (
+            ((2, 1, -1, 0, 1, -1, -2, 0, 0, 0),
+             (-1, 2, 2, 1, -2, 2, -1, 1, 0, 0), (-1, -2, 0, 1, -1, -2, -2, 0, 1, 0), (2, 0, 1, -1, 1, 0, -2, 0, 0, 1)),
+            ((0, -2, 2, 1, 2, -2, 0, 0, 0),
+             (-2, 0, -2, -2, 2, -1, 1, 0, 0), (-1, -2, 1, 2, 0, 1, 0, 1, 0), (0, -1, 2, -1, 1, -2, 0, 0, 1)),
+            ((1, 3, 0, 3, 0, -1, -3, 0, -1, 0, 0, 0),
+             (0, 2, -1, -1, 2, -1, -1, -2, 0, 1, 0, 0), (0, 2, -1, -3, 1, 3, -2, 3, 3, 0, 1, 0),
+             (2, -3, 2, 2, -2, -2, -1, -2, 2, 0, 0, 1)),
+            ((4, -9, 8, 2, -6, 0, 7, 0, 0, 0),
+             (-9, -7, -2, -1, -4, -1, 3, 1, 0, 0), (5, 2, 9, -4, 8, 6, -4, 0, 1, 0), (-7, -4, 2, -3, 8, -6, 1, 0, 0, 1)),
+        ):
+            self.check(*question(costs, *[(*line, 0) for line in lines]))
+
+    def test_many_questions_with_numbers_of_nought(self):
+        chance = random.Random(16)
+        for round_ in range(1500):
+            rows, many = chance.randint(2, 4), chance.randint(4, 8)
+            most = chance.choice((1, 2, 3, 5))
+            lines = []
+            for at in range(rows):
+                own_unknown = [1 if k == at else 0 for k in range(rows)]
+                lines.append([*[chance.randint(-most, most) for k in range(many)], *own_unknown, 0])
+            costs = [chance.randint(-most, most) for k in range(many)] + [0] * rows
+            answer = self.check(*question(costs, *lines), looked=False)
+            self.assertNotEqual(answer[0], "none")
 
     def test_beale(self):
         costs, rows = question(

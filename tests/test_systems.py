@@ -6,12 +6,7 @@ import unittest
 from fractions import Fraction
 
 from nearlaid.numbers.systems import solved
-from tests.support import free_places, is_row, own, row, some_fraction, sum_with, told
-
-
-def system(*lines):
-    """A system of lines of numbers, in each the last the row's number."""
-    return tuple((row(*line[:-1]), row(line[-1])[0]) for line in lines)
+from tests.support import free_places, is_row, own, row, some_fraction, sum_with, system, told
 
 
 class Checked(unittest.TestCase):

@@ -8,13 +8,8 @@ from nearlaid.numbers.systems import solved
 from nearlaid.tables.nearest import nearest
 from nearlaid.tables.ties import nearest_tied, tied_shown
 from tests.support import (
-    changed, is_fraction, is_row, mixed, own, row, some_row, some_rows, some_table, sum_with, told, turned,
+    changed, is_fraction, is_row, mixed, own, row, some_row, some_table, some_ties, sum_with, system, told, turned,
 )
-
-
-def ties_of(*lines):
-    """Ties of lines of numbers, in each the last the tie's number."""
-    return tuple((row(*line[:-1]), row(line[-1])[0]) for line in lines)
 
 
 def holds(table, ties, weights, pulls):
@@ -86,9 +81,9 @@ class Checked(unittest.TestCase):
 class ByHand(Checked):
     def test_one_tie(self):
         table = (("a", "b"), (row(1, 0), row(0, 1)), row(3, 5))
-        answer = self.check(table, ties_of((1, 1, 4)))
+        answer = self.check(table, system((1, 1, 4)))
         self.assertEqual(answer, ("near", row(1, 3), row(2, 2), (8, 1), row(2)))
-        answer = self.check(table, ties_of((2, 0, 4)))
+        answer = self.check(table, system((2, 0, 4)))
         self.assertEqual(answer, ("near", row(2, 5), row(1, 0), (1, 1), row("1/2")))
 
     def test_no_ties(self):
@@ -99,54 +94,54 @@ class ByHand(Checked):
 
     def test_ties_told_twice(self):
         table = (("a", "b"), (row(1, 0), row(0, 1)), row(3, 5))
-        word, weights, left, far, pulls = self.check(table, ties_of((1, 1, 4), (1, 1, 4)))
+        word, weights, left, far, pulls = self.check(table, system((1, 1, 4), (1, 1, 4)))
         self.assertEqual((weights, left, far), (row(1, 3), row(2, 2), (8, 1)))
-        self.assertIs(tied_shown(table, ties_of((1, 1, 4), (1, 1, 4)), weights, row(5, -3)), True)
-        self.assertIs(tied_shown(table, ties_of((1, 1, 4), (1, 1, 4)), weights, row(5, -2)), False)
+        self.assertIs(tied_shown(table, system((1, 1, 4), (1, 1, 4)), weights, row(5, -3)), True)
+        self.assertIs(tied_shown(table, system((1, 1, 4), (1, 1, 4)), weights, row(5, -2)), False)
 
     def test_ties_that_are_sums(self):
         table = (("a", "b"), (row(1, 0), row(0, 1)), row(3, 5))
-        answer = self.check(table, ties_of((1, 1, 4), (1, -1, 0), (3, 1, 8), (0, 2, 4)))
+        answer = self.check(table, system((1, 1, 4), (1, -1, 0), (3, 1, 8), (0, 2, 4)))
         self.assertEqual(answer[:4], ("near", row(2, 2), row(1, 3), (10, 1)))
 
     def test_ties_of_noughts(self):
         table = (("a", "b"), (row(1, 0), row(0, 1)), row(3, 5))
-        answer = self.check(table, ties_of((0, 0, 0)))
+        answer = self.check(table, system((0, 0, 0)))
         self.assertEqual(answer[:4], ("near", row(3, 5), row(0, 0), (0, 1)))
-        self.assertEqual(self.check(table, ties_of((0, 0, 1))), ("none", row(1)))
+        self.assertEqual(self.check(table, system((0, 0, 1))), ("none", row(1)))
 
     def test_none(self):
         table = (("a", "b"), (row(1, 0), row(0, 1)), row(3, 5))
-        self.assertEqual(self.check(table, ties_of((1, 1, 4), (1, 1, 5)))[0], "none")
-        self.assertEqual(self.check(table, ties_of((1, 1, 4), (1, -1, 0), (1, 0, 3)))[0], "none")
-        self.assertEqual(self.check(table, ties_of((1, 1, 4), (0, 0, "-1/7")))[0], "none")
+        self.assertEqual(self.check(table, system((1, 1, 4), (1, 1, 5)))[0], "none")
+        self.assertEqual(self.check(table, system((1, 1, 4), (1, -1, 0), (1, 0, 3)))[0], "none")
+        self.assertEqual(self.check(table, system((1, 1, 4), (0, 0, "-1/7")))[0], "none")
 
     def test_no_columns(self):
         table = ((), ((), ()), row(1, 2))
         self.assertEqual(self.check(table, ()), ("near", (), row(1, 2), (5, 1), ()))
-        self.assertEqual(self.check(table, ties_of((0,), (0,)))[:4], ("near", (), row(1, 2), (5, 1)))
-        self.assertEqual(self.check(table, ties_of((0,), (3,)))[0], "none")
+        self.assertEqual(self.check(table, system((0,), (0,)))[:4], ("near", (), row(1, 2), (5, 1)))
+        self.assertEqual(self.check(table, system((0,), (3,)))[0], "none")
 
     def test_no_rows(self):
         table = (("a", "b"), (), ())
         # Without rows the shortest weights that fulfil the tie are told.
-        self.assertEqual(self.check(table, ties_of((1, 2, 5))), ("near", row(1, 2), (), (0, 1), row(0)))
-        self.assertEqual(self.check(table, ties_of((0, 0, 5)))[0], "none")
+        self.assertEqual(self.check(table, system((1, 2, 5))), ("near", row(1, 2), (), (0, 1), row(0)))
+        self.assertEqual(self.check(table, system((0, 0, 5)))[0], "none")
         self.assertEqual(self.check(((), (), ()), ()), ("near", (), (), (0, 1), ()))
 
     def test_shortest(self):
         table = (("a", "b", "c"), (row(1, 1, 0),), row(2))
-        answer = self.check(table, ties_of((0, 0, 1, 7)))
+        answer = self.check(table, system((0, 0, 1, 7)))
         self.assertEqual(answer, ("near", row(1, 1, 7), row(0), (0, 1), row(0)))
         # Among those with b and c alike, which of them bear the sum does not matter but for shortness.
         table = (("a", "b", "c"), (row(1, 1, 1),), row(3))
-        self.assertEqual(self.check(table, ties_of((1, 0, 0, 1)))[1], row(1, 1, 1))
+        self.assertEqual(self.check(table, system((1, 0, 0, 1)))[1], row(1, 1, 1))
 
 
 class Looked(Checked):
     def test_others_that_are_as_near(self):
         table = (("a", "b", "c"), (row(1, 1, 0), row(0, 0, 1)), row(2, 4))
-        ties = ties_of((0, 0, 1, 1))
+        ties = system((0, 0, 1, 1))
         word, weights, left, far, pulls = self.check(table, ties)
         self.assertEqual((weights, pulls), (row(1, 1, 1), row(3)))
         self.assertIs(tied_shown(table, ties, row(5, -3, 1), row(3)), True)
@@ -158,7 +153,7 @@ class Looked(Checked):
 
     def test_fulfilled_but_not_nearest(self):
         table = (("a", "b"), (row(1, 0), row(0, 1)), row(3, 5))
-        ties = ties_of((1, 1, 4))
+        ties = system((1, 1, 4))
         for pulls in (row(0), row(1), row(2), row("5/2")):
             self.assertIs(tied_shown(table, ties, row(2, 2), pulls), False)
         self.assertIs(tied_shown(table, ties, row(3, 5), row(0)), False)
@@ -170,7 +165,7 @@ class Looked(Checked):
 
     def test_ties_that_none_fulfils(self):
         table = (("a",), (row(1),), row(2))
-        ties = ties_of((1, 1), (1, 2))
+        ties = system((1, 1), (1, 2))
         for weight in (1, 2, "3/2"):
             self.assertIs(tied_shown(table, ties, row(weight), row(0, 0)), False)
 
@@ -178,21 +173,12 @@ class Looked(Checked):
         table = (("a", "b"), (row(1, 0), row(0, 1)), row(3, 5))
         most = 10 ** 400 + 1
         for pull in ((most, 7), (2 * most + 1, most)):
-            self.assertIs(tied_shown(table, ties_of((1, 1, 4)), row(1, 3), (pull,)), False)
-        twice = ties_of((1, 1, 4), (1, 1, 4))
+            self.assertIs(tied_shown(table, system((1, 1, 4)), row(1, 3), (pull,)), False)
+        twice = system((1, 1, 4), (1, 1, 4))
         self.assertIs(tied_shown(table, twice, row(1, 3), ((most, 7), (14 - most, 7))), True)
 
 
 class Sought(Checked):
-    def some_ties(self, chance, many, columns, figures=1):
-        """Ties that some weights fulfil, but for one in four."""
-        weights = some_row(chance, columns)
-        lines = some_rows(chance, many, columns, figures)
-        numbers = tuple(told(sum_with(line, weights)) for line in lines)
-        if numbers and chance.randrange(4) == 0:
-            numbers = changed(numbers, chance.randrange(many))
-        return tuple(zip(lines, numbers))
-
     def test_of_all_sizes(self):
         chance = random.Random(9)
         words = {"near": 0, "none": 0}
@@ -200,7 +186,7 @@ class Sought(Checked):
             for rows in range(0, 11, 2):
                 for many in range(5):
                     table = some_table(chance, columns, rows)
-                    words[self.check(table, self.some_ties(chance, many, columns))[0]] += 1
+                    words[self.check(table, some_ties(chance, many, some_row(chance, columns)))[0]] += 1
         self.assertGreater(min(words.values()), 20)
 
     def test_many_small_ones(self):

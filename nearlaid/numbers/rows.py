@@ -1,11 +1,16 @@
 """Rows of fractions, as wholes."""
 
-from nearlaid.numbers.fractions import NOUGHT, ONE, less, plus, times
+from nearlaid.numbers.fractions import NOUGHT, ONE, less, plus, product, times
 
 
 def noughts(many):
     """A row of so many noughts."""
     return (NOUGHT,) * many
+
+
+def ones(many):
+    """A row of so many ones."""
+    return (ONE,) * many
 
 
 def unit(many, at):
@@ -26,6 +31,21 @@ def row_less(row, other):
 def row_times(row, by):
     """The row so many times."""
     return tuple([times(one, by) for one in row])
+
+
+def opposite(row):
+    """The row with all signs turned."""
+    return tuple([(-above, below) for above, below in row])
+
+
+def unsigned(row):
+    """The row without signs."""
+    return tuple([(abs(above), below) for above, below in row])
+
+
+def row_sum(row):
+    """The sum of all places."""
+    return product(row, ones(len(row)))
 
 
 def turned(rows, many):

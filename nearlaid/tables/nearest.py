@@ -50,9 +50,13 @@ def balanced(table, ties):
 
 def is_nearest(table, weights):
     """Whether the weights are nearest: what is left is upright to each column."""
+    return is_upright(table, left_of(table, weights))
+
+
+def is_upright(table, numbers):
+    """Whether the numbers, one for each row, have the product 0 with each column."""
     names, rows, wish = table
-    left = left_of(table, weights)
-    return all(product(column, left) == NOUGHT for column in turned(rows, len(names)))
+    return all(product(column, numbers) == NOUGHT for column in turned(rows, len(names)))
 
 
 def farther(table, weights):
