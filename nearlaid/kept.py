@@ -2,8 +2,7 @@
 
 from nearlaid.errors import NoName, NoRow
 from nearlaid.numbers.fractions import ONE, less, over
-from nearlaid.numbers.rows import unit
-from nearlaid.tables.nearest import nearest_to
+from nearlaid.tables.nearest import nearest_to, share_of
 
 
 class Kept:
@@ -73,9 +72,7 @@ class Kept:
     def share(self, number):
         """What the told weights' sum with the row grows by where its wish grows by 1."""
         self.check_row(number)
-        at = self.numbers().index(number)
-        left = nearest_to(self.table(), unit(len(self.lines), at))[1]
-        return less(ONE, left[at])
+        return share_of(self.table(), self.numbers().index(number))
 
     def out(self, number):
         """What the row would be left with by the table without it; None where its share is 1."""

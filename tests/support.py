@@ -122,3 +122,22 @@ def some_ties(chance, many, weights, figures=1):
     if numbers and chance.randrange(4) == 0:
         numbers = changed(numbers, chance.randrange(many))
     return tuple(zip(lines, numbers))
+
+
+def bounds_of(*pairs):
+    """Bounds of pairs of numbers, or None."""
+    return tuple(tuple(None if end is None else row(end)[0] for end in pair) for pair in pairs)
+
+
+def some_bounds(chance, many, figures=1):
+    """Bounds of all kinds."""
+    pairs = []
+    for k in range(many):
+        low, high = sorted((some_fraction(chance, figures), some_fraction(chance, figures)), key=own)
+        pairs.append(((None, None), (low, None), (None, high), (low, high), (low, low))[chance.randrange(5)])
+    return tuple(pairs)
+
+
+def own_left(table, weights):
+    """What is left of the weights, by Python's own fractions."""
+    return tuple(told(own(w) - sum_with(line, weights)) for line, w in zip(table[1], table[2]))

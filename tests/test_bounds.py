@@ -10,16 +10,11 @@ from nearlaid.corners.bounds import bound_shown, nearest_bound
 from nearlaid.tables.nearest import nearest
 from nearlaid.tables.ties import nearest_tied
 from tests.support import (
-    changed, is_fraction, is_row, own, row, some_fraction, some_row, some_rows, some_table, some_ties,
-    sum_with, system, told, turned,
+    bounds_of, changed, is_fraction, is_row, own, row, some_bounds, some_fraction, some_row, some_rows, some_table,
+    some_ties, sum_with, system, told, turned,
 )
 
 UNIT = (("a", "b"), (row(1, 0), row(0, 1)), row(3, 5))
-
-
-def bounds_of(*pairs):
-    """Bounds of pairs of numbers, or None."""
-    return tuple(tuple(None if end is None else row(end)[0] for end in pair) for pair in pairs)
 
 
 def let(ties, bounds, weights):
@@ -209,14 +204,6 @@ class ByHand(Checked):
 
 
 class Sought(Checked):
-    def some_bounds(self, chance, many, figures=1):
-        """Bounds of all kinds."""
-        pairs = []
-        for k in range(many):
-            low, high = sorted((some_fraction(chance, figures), some_fraction(chance, figures)), key=own)
-            pairs.append(((None, None), (low, None), (None, high), (low, high), (low, low))[chance.randrange(5)])
-        return tuple(pairs)
-
     def some_let(self, chance, bounds):
         """Weights within the bounds, often at them."""
         weights = []
@@ -232,7 +219,7 @@ class Sought(Checked):
             for rows in (0, 1, 2, 4, 7, 10):
                 for many in range(5):
                     table = some_table(chance, columns, rows)
-                    bounds = self.some_bounds(chance, columns)
+                    bounds = some_bounds(chance, columns)
                     ties = some_ties(chance, many, self.some_let(chance, bounds))
                     words[self.check(table, ties, bounds, looked=rows < 4)[0]] += 1
         self.assertGreater(min(words.values()), 20)
@@ -267,7 +254,7 @@ class Sought(Checked):
         chance = random.Random(5)
         for many in (0, 2, 4):
             table = some_table(chance, 6, 10, 12)
-            bounds = self.some_bounds(chance, 6, 12)
+            bounds = some_bounds(chance, 6, 12)
             self.check(table, some_ties(chance, many, self.some_let(chance, bounds), 12), bounds, looked=False)
             bounds = bounds_of(*[("-1/7", "1/7")] * 6)
             self.check(table, some_ties(chance, many, self.some_let(chance, bounds), 12), bounds, looked=False)

@@ -7,7 +7,7 @@ are nearer, or a way that leads to nearer ones. So no face is come to twice, and
 
 from nearlaid.corners.corners import least_corner
 from nearlaid.numbers.fractions import NOUGHT, ONE, compared, less, over, plus, product, times
-from nearlaid.numbers.rows import noughts, opposite, row_less, row_plus, row_times, turned, unit
+from nearlaid.numbers.rows import noughts, opposite, places_of, row_less, row_plus, row_times, turned, unit
 from nearlaid.tables.nearest import balanced
 from nearlaid.tables.texts import left_of
 from nearlaid.tables.ties import ties_hold
@@ -66,11 +66,6 @@ def held_nearest(table, ties, weights, held):
     for k, weight in zip(loose, found):
         told[k] = weight
     return tuple(told)
-
-
-def places_of(row, places):
-    """Those places of the row alone."""
-    return tuple([row[k] for k in places])
 
 
 def moved(weights, way, bounds, most):

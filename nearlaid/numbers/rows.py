@@ -33,6 +33,11 @@ def row_times(row, by):
     return tuple([times(one, by) for one in row])
 
 
+def row_times_row(row, other):
+    """The products of two rows, place by place."""
+    return tuple([times(one, two) for one, two in zip(row, other)])
+
+
 def opposite(row):
     """The row with all signs turned."""
     return tuple([(-above, below) for above, below in row])
@@ -51,3 +56,8 @@ def row_sum(row):
 def turned(rows, many):
     """The columns of rows that have so many places."""
     return tuple([tuple([row[k] for row in rows]) for k in range(many)])
+
+
+def places_of(row, places):
+    """Those places of the row alone, in their order."""
+    return tuple([row[k] for k in places])

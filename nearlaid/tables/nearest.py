@@ -1,7 +1,7 @@
 """The nearest weights, and the shortest of them."""
 
-from nearlaid.numbers.fractions import NOUGHT, product
-from nearlaid.numbers.rows import noughts, row_less, turned
+from nearlaid.numbers.fractions import NOUGHT, ONE, less, product
+from nearlaid.numbers.rows import noughts, row_less, turned, unit
 from nearlaid.numbers.systems import solved
 from nearlaid.tables.texts import left_of
 
@@ -18,6 +18,12 @@ def nearest_to(table, wish):
     weights, pulls = balanced(wished, ())
     left = left_of(wished, weights)
     return (weights, left, product(left, left))
+
+
+def share_of(table, at):
+    """What the nearest weights' sum with the row at that place grows by where its wish grows by 1."""
+    left = nearest_to(table, unit(len(table[1]), at))[1]
+    return less(ONE, left[at])
 
 
 def flat_ways(table):

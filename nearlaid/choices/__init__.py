@@ -1,0 +1,1 @@
+"""Choices: of few columns, and of whole weights."""

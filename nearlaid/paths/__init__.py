@@ -1,0 +1,1 @@
+"""What is left where the wish moves."""
