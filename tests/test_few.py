@@ -31,7 +31,7 @@ def best_by_all(table, k):
 
 def names_hold(paper, many):
     """Whether columns and knots are named as the document lets them."""
-    named = []
+    named = set()
     for at, knot in enumerate(paper):
         if knot[0] == "part":
             word, column, chosen, without = knot
@@ -40,7 +40,7 @@ def names_hold(paper, many):
             for number in (chosen, without):
                 if number <= at or number >= len(paper) or number in named:
                     return False
-                named.append(number)
+                named.add(number)
     return len(paper) > 0
 
 

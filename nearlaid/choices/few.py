@@ -1,6 +1,6 @@
 """Few columns: of all choices of so many columns the nearest, and papers which show that."""
 
-from nearlaid.choices.knots import named_rightly
+from nearlaid.choices.knots import named_rightly, states_at_ends
 from nearlaid.numbers.fractions import compared
 from nearlaid.tables.sums import far_by, sums_of
 
@@ -74,12 +74,13 @@ def bound_reaches(sums, columns, left_out, far):
 def choice_shown(table, k, columns, paper):
     """Whether the paper shows that no choice of k columns is nearer than these columns."""
     many = len(table[0])
-    if not named_rightly([knot[1:] if knot[0] == "part" else None for knot in paper], many):
+    branches = [knot[1:] if knot[0] == "part" else None for knot in paper]
+    if not named_rightly(branches, many):
         return False
     sums = sums_of(table)
     far = far_by(sums, columns)
     looked = {}
-    for chosen, left_out in ends_of(paper):
+    for knot, (chosen, left_out) in states_at_ends(paper, branches, ((), ()), parted):
         if counts(k, many, chosen, left_out):
             # Many ends leave out the same columns: what was looked at is not reckoned again.
             if left_out not in looked:
@@ -89,21 +90,11 @@ def choice_shown(table, k, columns, paper):
     return True
 
 
-def ends_of(paper):
-    """For each end that is come to a pair (chosen, left out), each a rising tuple of columns."""
-    # Knots are named only ahead of themselves, so each is come to before it is looked at.
-    states = {0: ((), ())}
-    found = []
-    for at, knot in enumerate(paper):
-        if at in states:
-            chosen, left_out = states[at]
-            if knot[0] == "end":
-                found.append(states[at])
-            else:
-                word, column, chosen_knot, other_knot = knot
-                states[chosen_knot] = (with_column(chosen, column), left_out)
-                states[other_knot] = (chosen, with_column(left_out, column))
-    return found
+def parted(knot, state):
+    """What is chosen and left out, both rising tuples, behind a knot: its column chosen, and left out."""
+    column = knot[1]
+    chosen, left_out = state
+    return (with_column(chosen, column), left_out), (chosen, with_column(left_out, column))
 
 
 def with_column(columns, column):

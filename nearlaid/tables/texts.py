@@ -16,6 +16,18 @@ def is_name(word):
     return 1 <= len(word) <= LONGEST_NAME and all(sign in LETTERS for sign in word)
 
 
+def are_names(words):
+    """Whether all words are names, none of them twice."""
+    return all(is_name(word) for word in words) and len(set(words)) == len(words)
+
+
+def without_sign(words, many):
+    """The words but the sign = behind so many, with one behind it; None where they are not such."""
+    if len(words) != many + 2 or words[many] != "=":
+        return None
+    return [*words[:many], words[-1]]
+
+
 def read_table(text):
     """The table that the text writes; else NoTable with the first line that is none."""
     lines = text.split("\n")
@@ -33,19 +45,16 @@ def read_head(line):
     """The names that the first line writes; else NoTable."""
     words = line.split(" ")
     names = words[:-1]
-    if words[-1] != "=" or len(set(names)) != len(names):
-        raise NoTable(0)
-    if not all(is_name(name) for name in names):
+    if words[-1] != "=" or not are_names(names):
         raise NoTable(0)
     return tuple(names)
 
 
 def read_line(line, many, at):
     """A row's fractions, so many, and the wish's behind them, that the line writes; else NoTable."""
-    words = line.split(" ")
-    if len(words) != many + 2 or words[many] != "=":
+    words = without_sign(line.split(" "), many)
+    if words is None:
         raise NoTable(at)
-    del words[many]
     try:
         return [read_number(word) for word in words]
     except NoNumber:

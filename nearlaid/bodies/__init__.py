@@ -1,0 +1,1 @@
+"""Bodies of points."""
