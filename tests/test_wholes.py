@@ -6,11 +6,13 @@ import random
 import unittest
 from fractions import Fraction
 
-from nearlaid.choices.boxes import box_nearest, far_at, low_place, question_of
+from nearlaid.choices.boxes import box_nearest, far_at, low_place, question_of, settled
 from nearlaid.choices.wholes import nearest_wholes, wholes_shown
 from nearlaid.corners.bounds import nearest_bound
 from nearlaid.numbers.fractions import common_below
-from tests.support import bounds_of, is_fraction, is_row, own, own_left, row, some_row, some_table, sum_with, told, turned
+from tests.support import (
+    bounds_of, is_fraction, is_row, own, own_left, rank, row, some_row, some_table, sum_with, told, turned,
+)
 
 HALF = (("a",), (row(1),), row("1/3"))
 UNIT = (("a", "b"), (row(1, 0), row(0, 1)), row("1/2", "7/3"))
@@ -218,21 +220,43 @@ class Told(Checked):
 
 
 class Boxes(unittest.TestCase):
+    def check(self, table, box, place):
+        """Look at the nearest place of a box, and at where the loose weights settle on the way there."""
+        question = question_of(table)
+        by = common_below([number for line in (*table[1], table[2]) for number in line])
+        far = nearest_bound(table, (), bounds_of(*box))[3]
+        for found in (settled(question, box, place), box_nearest(question, box, place)):
+            numbers, below, loose = found
+            for k, (low, high) in enumerate(box):
+                self.assertTrue(low * below <= numbers[k] <= high * below)
+                self.assertTrue(k in loose or numbers[k] in (low * below, high * below))
+        above, far_below = far_at(question, found)
+        self.assertEqual(Fraction(above, far_below * by * by), own(far))
+
     def test_as_near_as_under_bounds(self):
         chance = random.Random(6)
         for round_ in range(300):
             columns, rows = chance.randrange(6), chance.randrange(6)
             table = some_table(chance, columns, rows)
             box = tuple(tuple(sorted((chance.randint(-2, 2), chance.randint(-2, 2)))) for k in range(columns))
-            question = question_of(table)
-            place = box_nearest(question, box, low_place(box))
-            numbers, below, loose = place
-            for number, (low, high) in zip(numbers, box):
-                self.assertTrue(low * below <= number <= high * below)
-            above, far_below = far_at(question, place)
-            by = common_below([number for line in (*table[1], table[2]) for number in line])
-            told_far = nearest_bound(table, (), bounds_of(*box))[3]
-            self.assertEqual(Fraction(above, far_below * by * by), own(told_far))
+            self.check(table, box, low_place(box))
+            self.check(table, box, ([high for low, high in box], 1, []))
+
+    def test_all_loose_at_first(self):
+        """Several weights would leave the box: the first of them to come to a bound stops there."""
+        chance = random.Random(9)
+        for round_ in range(300):
+            columns = chance.randint(1, 5)
+            lines = tuple(some_row(chance, columns) for k in range(columns + 1))
+            if rank([[own(x) for x in column] for column in turned(lines, columns)]) == columns:
+                table = (tuple("abcdef"[:columns]), lines, some_row(chance, columns + 1))
+                box = tuple((chance.randint(-2, 0), chance.randint(0, 2)) for k in range(columns))
+                self.check(table, box, ([low + high for low, high in box], 2, list(range(columns))))
+
+    def test_a_small_push(self):
+        table = (("a",), (row(1),), row(0))
+        for weight in (-1, 0, 1):
+            self.check(table, ((min(0, weight), max(0, weight)),), ([weight], 1, []))
 
 
 class Looked(unittest.TestCase):

@@ -15,9 +15,9 @@ from nearlaid.numbers.systems import cleared
 def question_of(table):
     """The sums of the table, taken so many times that all its numbers are whole."""
     names, rows, wish = table
-    columns = [*turned(rows, len(names)), wish]
-    by = common_below([number for column in columns for number in column])
-    *columns, wished = [whole_row(column, by) for column in columns]
+    by = common_below([number for row in (*rows, wish) for number in row])
+    columns = [whole_row(column, by) for column in turned(rows, len(names))]
+    wished = whole_row(wish, by)
     products = [[whole_product(column, other) for other in columns] for column in columns]
     pulls = [whole_product(column, wished) for column in columns]
     return (products, pulls, whole_product(wished, wished))
@@ -52,14 +52,13 @@ def box_nearest(question, box, place):
 
 
 def pushed_inwards(question, box, place):
-    """The first column whose weight at a bound is pushed into the box, or None."""
+    """The first column whose weight at a bound is pushed into the box, or None; loose ones have no push."""
     products, pulls, square = question
     numbers, below, loose = place
     for k, (low, high) in enumerate(box):
-        if low < high and k not in loose:
-            push = pulls[k] * below - whole_product(products[k], numbers)
-            if (push > 0 and numbers[k] != high * below) or (push < 0 and numbers[k] != low * below):
-                return k
+        push = pulls[k] * below - whole_product(products[k], numbers)
+        if (push > 0 and numbers[k] != high * below) or (push < 0 and numbers[k] != low * below):
+            return k
     return None
 
 

@@ -6,7 +6,7 @@ what is left, keeps its sign: one above 0 holds its weight at the high bound, on
 
 from nearlaid.corners.bounds import are_within, nearest_bound
 from nearlaid.corners.corners import least_corner
-from nearlaid.numbers.fractions import NOUGHT, ONE, compared, less, over, plus, product
+from nearlaid.numbers.fractions import NOUGHT, ONE, common_below, compared, less, over, plus, product, whole_row
 from nearlaid.numbers.rows import noughts, opposite, row_less, row_plus, row_times, turned, unit
 from nearlaid.tables.nearest import level_ways
 from nearlaid.tables.texts import left_of
@@ -78,20 +78,27 @@ def farthest(rows, bounds, weights, way, loose, most):
     held = [unit(many, k) for k in range(many) if k not in loose]
     flat = level_ways([*rows, *held], many)
     ways = (way, *flat, *[opposite(one) for one in flat])
-    limits = [(unit(len(ways), 0), most)]
+    limits = [whole_limit(unit(len(ways), 0), most)]
     for k in loose:
         low, high = bounds[k]
         gone = tuple([one[k] for one in ways])
         if low is not None:
-            limits.append((opposite(gone), less(weights[k], low)))
+            limits.append(whole_limit(opposite(gone), less(weights[k], low)))
         if high is not None:
-            limits.append((gone, less(high, weights[k])))
+            limits.append(whole_limit(gone, less(high, weights[k])))
     asked = [(row + unit(len(limits), at), number) for at, (row, number) in enumerate(limits)]
     costs = ((-1, 1),) + noughts(len(ways) - 1 + len(limits))
     times_gone = least_corner(costs, tuple(asked))[1]
     for one, number in zip(ways, times_gone):
         weights = row_plus(weights, row_times(one, number))
     return times_gone[0], weights
+
+
+def whole_limit(row, number):
+    """A row and its most, taken so many times that all are whole: else the corner question's numbers grow long."""
+    numbers = (*row, number)
+    *wholes, most = [(whole, 1) for whole in whole_row(numbers, common_below(numbers))]
+    return tuple(wholes), most
 
 
 def wish_at(table, other, t):

@@ -92,7 +92,7 @@ def counted_rows(sums):
         raise NoSums("products that are not the same turned about")
     lines = [*[(*row, pull) for row, pull in zip(products, pulls)], (*pulls, square)]
     found = []
-    for k in range(len(lines)):
+    for k in range(len(pulls) + 1):
         line = lines[k]
         count = line[k]
         if count[0] < 0 or (count == NOUGHT and line != noughts(len(lines))):
